@@ -1,0 +1,1 @@
+"""Fewrules: rules of few names from examples."""
