@@ -1,0 +1,48 @@
+"""The names, arguments and files of the interface, as far as it is built; points 3 to 5 for all of it."""
+
+import inspect
+import unittest
+from importlib import import_module
+
+FUNCTIONS = {
+    "tasks": ["atoms_of(task)", "is_plain(task)", "is_body(task, body)", "is_example(task, example)"],
+    "fillings": ["fillings(task, example)", "set_of(task, world, filling)", "sets_of(task, example)",
+                 "covers(task, body, example)"],
+    "words": ["words_of(line)", "is_name(word)", "is_numeral(word)", "atom_of(word)"],
+    "texts": ["read_task(text)", "write_task(task)", "read_rule(task, text)", "write_rule(task, rule)",
+              "read_theory(task, lines)", "write_theory(task, rules)", "read_example(task, text)",
+              "write_example(example)"],
+    "closure": ["closing(signature, rules, world)", "derivation(rules, world)",
+                "accepts_derivation(rules, world, told)", "is_whole(rules, world, told)", "missing_fact(rules, world)"],
+    "folds": ["closure_of(task, body)", "fold_of(task, rule, other)", "accepts_fold(task, rule, other, fold)"],
+    "calls": ["least_set(task, theory, world)", "stages_of(task, theory, world)",
+              "accepts_stages(task, theory, world, stages)", "is_closed(task, theory, world, facts)",
+              "theory_fits(task, theory)"],
+}
+CLASSES = {
+    "errors": ["TextError(line, column, reason)", "TooLarge(limit)", "InvalidSignature(reason)", "InvalidWorld(reason)",
+               "InvalidTask(reason)", "InvalidBody(reason)", "InvalidTheory(reason)", "UnknownExample(example)",
+               "InvalidLine(reason)"],
+    "worlds": ["World(constants, facts)"],
+    "tasks": ["Signature(known, unknown)",
+              "Task(signature, background, worlds, names, *, good, bad, calls=False)"],
+}
+
+
+class InterfaceTest(unittest.TestCase):
+    def test_functions(self):
+        for file, told in FUNCTIONS.items():
+            for text in told:
+                found = getattr(import_module("fewrules." + file), text.partition("(")[0])
+                self.assertTrue(inspect.isfunction(found), text)
+                self.assertEqual(found.__name__ + str(inspect.signature(found)), text)
+                self.assertEqual(found.__module__, "fewrules." + file)
+
+    def test_classes(self):
+        for file, told in CLASSES.items():
+            for text in told:
+                found = getattr(import_module("fewrules." + file), text.partition("(")[0])
+                self.assertTrue(inspect.isclass(found), text)
+                self.assertEqual(found.__name__ + str(inspect.signature(found)), text)
+                self.assertEqual(found.__module__, "fewrules." + file)
+                self.assertIn("__init__", vars(found))
