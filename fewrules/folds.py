@@ -16,11 +16,16 @@ def closure_of(task, body):
 def fold_of(task, rule, other):
     """Return the least fold of the rule into the other one, or None if there is none."""
     check_pair(task, rule, other)
+    found = folds_within(task, rule, closed_atoms(task, other[1]))
+    return found[0] if found else None
+
+
+def folds_within(task, rule, have):
+    """Return the ascending list of the folds of a rule into the rules with this table of the atoms of a closure."""
     names = list(range(task.names))
     head = head_of(task, rule[0])[1]
     choices = [[name] for name in head] + [names] * (task.names - len(head))
-    found = fillings_within(choices, body_atoms(task, rule[1]), closed_atoms(task, other[1]))
-    return found[0] if found else None
+    return fillings_within(choices, body_atoms(task, rule[1]), have)
 
 
 def accepts_fold(task, rule, other, fold):

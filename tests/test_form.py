@@ -18,6 +18,7 @@ BUILTINS = (
     " StopIteration NotImplemented property staticmethod classmethod type"
 ).split()
 BARRED = re.compile(r"\b(typing|enum|Enum|Flag|Generic|Protocol|ABC|namedtuple|dataclass|register|mro|elements|law)\b")
+AT_ONCE = "list tuple dict sorted sum any all enumerate zip min max".split()
 MODULE_LEVEL = (ast.ImportFrom, ast.FunctionDef, ast.ClassDef, ast.Assign, ast.Expr)
 UNUSED = (ast.Import, ast.AsyncFunctionDef, ast.AsyncFor, ast.AsyncWith, ast.Await, ast.Div, ast.MatMult)
 
@@ -118,6 +119,39 @@ class FormTest(unittest.TestCase):
                         self.assertNotIn(bound, imported_names(tree) + classes, name)
             for bound in bound_names(tree) + defined_names(tree):
                 self.assertFalse(hasattr(builtins, bound), (name, bound))
+
+    def is_at_once(self, node):
+        """Whether a call stands where what it goes over is gone through at once; else it is of another kind."""
+        name = node.func.id if isinstance(node.func, ast.Name) else "." + node.func.attr
+        if name not in ("range", "zip", "enumerate", "reversed", ".items", ".keys", ".values"):
+            return True
+        above = node.above
+        if isinstance(above, (ast.For, ast.comprehension)):
+            return above.iter is node
+        if isinstance(above, ast.Compare):
+            return isinstance(above.ops[0], (ast.In, ast.NotIn))
+        fine = AT_ONCE + (["len", "reversed"] if name == "range" else [])
+        return isinstance(above, ast.Call) and isinstance(above.func, ast.Name) and above.func.id in fine
+
+    def is_set_in_place(self, node):
+        """Whether a set stands behind `in` or `==`, or in sorted or len, or is kept by a name of its own."""
+        above = node.above
+        if isinstance(above, ast.Call):
+            return isinstance(above.func, ast.Name) and above.func.id in ("sorted", "len") and not above.keywords
+        return isinstance(above, (ast.Compare, ast.Assign))
+
+    def test_what_is_gone_through_at_once(self):
+        """L23, L24."""
+        for tree in self.trees.values():
+            for node in ast.walk(tree):
+                for child in ast.iter_child_nodes(node):
+                    child.above = node
+        for place, node in self.each(ast.Call):
+            self.assertTrue(self.is_at_once(node), place)
+            if isinstance(node.func, ast.Name) and node.func.id in ("set", "frozenset"):
+                self.assertTrue(self.is_set_in_place(node), place)
+        for place, node in self.each(ast.Set, ast.SetComp):
+            self.assertTrue(self.is_set_in_place(node), place)
 
     def test_what_is_not_used(self):
         """L6, L7, L17, L20."""
