@@ -63,6 +63,15 @@ def size_of(mask):
     return f"{mask:b}".count("1")
 
 
+def size_below(mask, most):
+    """Return the number of the members of a mask, or the greatest number that is told if it has as many or more."""
+    size = 0
+    while mask and size < most:
+        mask = mask & (mask - 1)
+        size = size + 1
+    return size
+
+
 def meets_of(masks, others):
     """Return the list of what a mask and one of the others have in common, each once."""
     return list({mask & other: True for mask in masks for other in others})

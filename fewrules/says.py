@@ -99,10 +99,25 @@ def candidates(task):
 
 def open_examples(task, k):
     """Return the list of the candidates that are open."""
+    return open_among(task, k, {}, None)
+
+
+def open_among(task, k, settled, most):
+    """Return the first open candidates, so many or all (None), and put those ahead that are not to the settled ones."""
     found = candidates(task)
     field = field_of(task)
     theories = [bodies_that_fit(field, k)]
     if found:
         # Whether there may be a further example is the same for all candidates.
         tasks_with(task, found[0])
-    return [example for example in found if word_for(field, k, holders_for(task, example), theories) == "open"]
+    opened = []
+    for example in found:
+        if example in settled:
+            continue
+        if word_for(field, k, holders_for(task, example), theories) == "open":
+            opened.append(example)
+            if len(opened) == most:
+                break
+        else:
+            settled[example] = True
+    return opened

@@ -31,6 +31,16 @@ FUNCTIONS = {
                  "judge_refusal(task, k, told)"],
     "says": ["with_example(task, example, truth)", "witnesses(task, k, example)", "says(task, k, example)",
              "candidates(task)", "open_examples(task, k)"],
+    "boxes": ["search(task, slots)", "chart(task, slots)", "accepts_tree(task, slots, tree)",
+              "accepts_refutation(task, slots, tree)", "boxes_of(task, slots, tree)"],
+    "ranges": ["count_fitting(task, slots)", "fitting_at(task, slots, number)", "number_of(task, slots, theory)",
+               "edge_theories(task, slots)", "says(task, slots, example)",
+               "accepts_saying(task, slots, example, saying)"],
+    "marbles": ["keeping_list(task, first, second)", "is_keeping(task, first, second, pairs)",
+                "is_kept(task, example, other)", "first_kept(task)"],
+    "programs": ["facts_of(task, program, world)", "rows_of(task, program, world, table)",
+                 "program_fits(task, program)", "made_program(task)", "paper(task)", "accepts_paper(task, told)",
+                 "helper_says(task, example)"],
 }
 CLASSES = {
     "errors": ["TextError(line, column, reason)", "TooLarge(limit)", "InvalidSignature(reason)", "InvalidWorld(reason)",
@@ -39,6 +49,10 @@ CLASSES = {
     "worlds": ["World(constants, facts)"],
     "tasks": ["Signature(known, unknown)",
               "Task(signature, background, worlds, names, *, good, bad, calls=False)"],
+    "asks": ["Session(task, k)"],
+}
+METHODS = {
+    "asks": {"Session": ["ask(self)", "answer(self, truth)", "found(self)"]},
 }
 
 
@@ -59,3 +73,11 @@ class InterfaceTest(unittest.TestCase):
                 self.assertEqual(found.__name__ + str(inspect.signature(found)), text)
                 self.assertEqual(found.__module__, "fewrules." + file)
                 self.assertIn("__init__", vars(found))
+
+    def test_methods(self):
+        for file, classes in METHODS.items():
+            for name, told in classes.items():
+                held = vars(getattr(import_module("fewrules." + file), name))
+                for text in told:
+                    found = held[text.partition("(")[0]]
+                    self.assertEqual(found.__name__ + str(inspect.signature(found)), text)

@@ -1,0 +1,142 @@
+"""Theories for slots that fit, and trees of boxes that show which ones do, or that none does."""
+
+from fewrules.slots import check_slots, least_in, slots_of, told_facts, told_steps
+from fewrules.splits import Splits
+from fewrules.trees import Judge
+
+FIRST_LOOKS = 2000
+MOST_TURNS = 4
+
+
+def search(task, slots):
+    """Return ("theory", theory) with a theory for the slots that fits, or ("none", refutation)."""
+    check_slots(task, slots)
+    return search_for(slots_of(task, slots))
+
+
+def search_for(slots):
+    """Return what search does, for slots with their examples."""
+    word, told = found_for(slots)
+    if word == "theory":
+        return (word, slots.theory_of(told))
+    return ("none", told_tree(slots, told))
+
+
+def found_for(slots):
+    """Return ("theory", mask) with a theory that fits, or ("tree", tree)."""
+    splits = Splits(slots, False)
+    looks = FIRST_LOOKS
+    for turn in range(MOST_TURNS):
+        splits.turn = turn
+        found = splits.search(0, slots.everything, looks) or found_with_fewer(splits, looks // 4)
+        if found is not None:
+            return found
+        looks = looks * 2
+    splits.turn = 0
+    return splits.search(0, slots.everything, None)
+
+
+def found_with_fewer(splits, limit):
+    """Return ("theory", mask) with a theory that fits in which some bodies have all atoms, or None."""
+    slots = splits.slots
+    for idle in range(1, len(slots.names)):
+        for at in range(len(slots.names)):
+            places = [(at + step) % len(slots.names) for step in range(idle)]
+            must = slots.joined([slots.whole if place in places else 0 for place in range(len(slots.names))])
+            found = splits.search(must, slots.everything, limit)
+            if found is not None and found[0] == "theory":
+                return found
+    return None
+
+
+def chart(task, slots):
+    """Return a tree for the whole box."""
+    check_slots(task, slots)
+    held = slots_of(task, slots)
+    return told_tree(held, charted(held))
+
+
+def charted(slots):
+    """Return a tree for the whole box, as the search tells it."""
+    return Splits(slots, True).search(0, slots.everything, None)[1]
+
+
+def told_tree(slots, tree):
+    """Return the tree that the search told, as the document tells it."""
+    waiting = [tree]
+    ahead = []
+    while waiting:
+        node = waiting.pop()
+        ahead.append(node)
+        if is_split(node):
+            waiting.extend(node[2:])
+    done = []
+    for node in reversed(ahead):
+        if is_split(node):
+            second = done.pop()
+            first = done.pop()
+            done.append(("split", *slots.place_of(node[1]), first, second))
+        else:
+            done.append(all_leaf(slots, node[1], node[2]) if isinstance(node, tuple) else node.told())
+    return done[0]
+
+
+def is_split(node):
+    """Return True if the tree is a split, and no leaf."""
+    return isinstance(node, tuple) and node[0] == "split"
+
+
+def all_leaf(slots, must, may):
+    """Return the leaf "all" for a box."""
+    closed = []
+    stages = []
+    for scene in slots.scenes:
+        closed.append(told_facts(scene, least_in(scene, slots.rules_of(must))[0]))
+        stages.append(told_steps(scene, least_in(scene, slots.rules_of(may))[1]))
+    return ("all", closed, stages)
+
+
+def accepts_tree(task, slots, tree):
+    """Return True if the tree is one for the whole box."""
+    check_slots(task, slots)
+    return Judge(slots_of(task, slots)).accepts(tree)
+
+
+def accepts_refutation(task, slots, tree):
+    """Return True if the tree is a refutation."""
+    check_slots(task, slots)
+    return is_refutation(slots_of(task, slots), tree)
+
+
+def is_refutation(slots, tree):
+    """Return True if the tree is a refutation for slots with their examples."""
+    return Judge(slots).accepts(tree) and not has_all(tree)
+
+
+def has_all(tree):
+    """Return True if a leaf of the tree is "all"."""
+    waiting = [tree]
+    while waiting:
+        node = waiting.pop()
+        if node[0] == "all":
+            return True
+        if node[0] == "split":
+            waiting.extend(node[3:])
+    return False
+
+
+def boxes_of(task, slots, tree):
+    """Return the list of the boxes of the leaves "all" of a tree for the whole box, from the first to the last."""
+    check_slots(task, slots)
+    held = slots_of(task, slots)
+    found = []
+    waiting = [(0, held.everything, tree)]
+    while waiting:
+        must, may, node = waiting.pop()
+        if node[0] == "split":
+            digit = held.digit_at(node[1], node[2])
+            waiting.append((must, may & ~digit, node[4]))
+            waiting.append((must | digit, may, node[3]))
+        if node[0] == "all":
+            found.append(list(zip(held.bodies_of(must), held.bodies_of(may))))
+    return found
