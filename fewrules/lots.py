@@ -36,27 +36,29 @@ def lot_paper(task):
     """Return the list of the tuples (lot, table) for all least hard lots."""
     check_plain(task)
     field = field_of(task)
-    return paper_for(task, field, least_hard(field))
+    return paper_for(field, bad_fillings(task), least_hard(field))
 
 
-def paper_for(task, field, lots):
-    """Return the list of the tuples (lot, table) for hard lots."""
-    bads = bad_fillings(task)
+def paper_for(field, bads, lots):
+    """Return the list of the tuples (lot, table) for hard lots; the fillings of the bad examples are told."""
     return [(lot, (levels_for(field, lot), list(bads))) for lot in lots]
 
 
 def judge_lots(task, paper):
     """Return True if the paper is accepted."""
     check_plain(task)
-    if not all(is_lot(task, lot) for lot, _ in paper):
+    return accepts_lots(task, good_sets(task, list(range(len(task.good)))), bad_sets(task), paper)
+
+
+def accepts_lots(task, goods, bads, paper):
+    """Return True if the paper is accepted; the sets of the good and of the bad examples are told."""
+    if not all(is_lot(len(goods), lot) for lot, _ in paper):
         return False
-    goods = good_sets(task, list(range(len(task.good))))
-    bads = bad_sets(task)
     return all(accepts_table(task, goods, bads, lot, table) for lot, table in paper)
 
 
-def is_lot(task, lot):
-    """Return True if the tuple is a lot with at least one example."""
-    if len(lot) == 0 or not all(0 <= number < len(task.good) for number in lot):
+def is_lot(count, lot):
+    """Return True if the tuple is a lot of so many good examples, with at least one."""
+    if len(lot) == 0 or not all(0 <= number < count for number in lot):
         return False
     return all(first < second for first, second in zip(lot, lot[1:]))

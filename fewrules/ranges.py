@@ -18,6 +18,15 @@ def count_fitting(task, slots):
     return Counts(slots_of(task, slots)).count_within(0, 0)
 
 
+def counted(task, slots):
+    """Return the number of the theories for the slots that fit, and the first one of them, or None."""
+    check_slots(task, slots)
+    held = slots_of(task, slots)
+    counts = Counts(held)
+    first = counts.theory_at(0)
+    return (counts.count_within(0, 0), None if first is None else held.theory_of(first))
+
+
 def fitting_at(task, slots, number):
     """Return the fitting theory with this number, or None if there is none."""
     check_slots(task, slots)
@@ -98,6 +107,11 @@ def says(task, slots, example):
         return ("sure" if truth else "never", other)
     one = known.theory_of(told)
     return ("open", other, one) if truth else ("open", one, other)
+
+
+def word_for_slots(task, slots, example):
+    """Return the word alone of what is said of an example."""
+    return says(task, slots, example)[0]
 
 
 def check_further(task, example):

@@ -97,6 +97,20 @@ def candidates(task):
     return found
 
 
+def words_for(task, k):
+    """Return a table of what is said of each candidate, "none" if no theory of at most k rules fits."""
+    found = candidates(task)
+    if found:
+        # Whether there may be a further example is the same for all candidates.
+        tasks_with(task, found[0])
+    field = field_of(task)
+    bodies = bodies_for(field, k)
+    if bodies is None:
+        return {example: "none" for example in found}
+    theories = [bodies]
+    return {example: word_for(field, k, holders_for(task, example), theories) for example in found}
+
+
 def open_examples(task, k):
     """Return the list of the candidates that are open."""
     return open_among(task, k, {}, None)

@@ -9,19 +9,23 @@ from fewrules.meets import meet_masks
 from fewrules.parts import bodies_of, mask_of, members_of
 from fewrules.plain import check_plain
 from fewrules.rules import check_theory
+from fewrules.tables import bad_fillings
 from fewrules.transversals import lack_masks, transversal_masks
 
 
 def theory(task, k):
     """Return the theory of at most k rules that is told, or None if none fits."""
     check_plain(task)
-    field = field_of(task)
+    return theory_from(field_of(task), task.signature.unknown[0][0], k)
+
+
+def theory_from(field, name, k):
+    """Return the theory of at most k rules of the relation with this name that is told, or None if none fits."""
     lots = easy_lots(field, k)
     if lots is None:
         return None
     # Without a lot there is no rule to look for, and nothing that may be too large.
     spread = transversal_masks(lack_masks(field.everything, field.bads.masks)) if lots else []
-    name = task.signature.unknown[0][0]
     return [(name, first_general(field, lot, spread)) for lot in lots]
 
 
@@ -65,8 +69,13 @@ def refusal(task, k):
     field = field_of(task)
     if easy_lots(field, k) is not None:
         return None
+    return refusal_from(field, bad_fillings(task), k)
+
+
+def refusal_from(field, bads, k):
+    """Return the refusal for k that is told, where there is one; the fillings of the bad examples are told."""
     lots = least_hard(field)
-    return (paper_for(task, field, lots), colour_tree(len(task.good), lots, k))
+    return (paper_for(field, bads, lots), colour_tree(len(field.goods), lots, k))
 
 
 def judge_theory(task, rules):

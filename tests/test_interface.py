@@ -41,6 +41,12 @@ FUNCTIONS = {
     "programs": ["facts_of(task, program, world)", "rows_of(task, program, world, table)",
                  "program_fits(task, program)", "made_program(task)", "paper(task)", "accepts_paper(task, told)",
                  "helper_says(task, example)"],
+    "clashes": ["all_examples(task)", "numbers_of(task)", "part_task(task, numbers)", "numbered_lots(task)",
+                "clashes(task, k)", "mends(task, k)", "diagnosis(task, k)", "judge_diagnosis(task, k, told)"],
+    "book": ["status(task, k, example)", "drift(before, behind, k)"],
+    "report": ["examples_text(task, numbers)", "rule_lines(task, word, rules)", "drift_lines(task, rows)",
+               "diagnosis_lines(task, told)"],
+    "desk": ["answers_of(lines)"],
 }
 CLASSES = {
     "errors": ["TextError(line, column, reason)", "TooLarge(limit)", "InvalidSignature(reason)", "InvalidWorld(reason)",
@@ -50,9 +56,18 @@ CLASSES = {
     "tasks": ["Signature(known, unknown)",
               "Task(signature, background, worlds, names, *, good, bad, calls=False)"],
     "asks": ["Session(task, k)"],
+    "book": ["Book(task, k)"],
+    "journal": ["Journal(text='')"],
+    "desk": ["Desk()", "Keep(text='')"],
 }
 METHODS = {
     "asks": {"Session": ["ask(self)", "answer(self, truth)", "found(self)"]},
+    "book": {"Book": ["add(self, example, truth)", "remove(self, example)", "turn(self, example)", "undo(self)",
+                      "deeds(self)", "drift(self)"]},
+    "journal": {"Journal": ["add(self, record)", "fail(self, count)", "open_again(self)", "text(self)",
+                            "records(self)"]},
+    "desk": {"Desk": ["obey(self, line)", "journal(self)"],
+             "Keep": ["obey(self, line)", "fail(self, count)", "open_again(self)", "text(self)"]},
 }
 
 
