@@ -1,11 +1,14 @@
 """Theories for slots that fit, and trees of boxes that show which ones do, or that none does."""
 
+from itertools import combinations
+
 from fewrules.slots import check_slots, least_in, slots_of, told_facts, told_steps
 from fewrules.splits import Splits
 from fewrules.trees import Judge
 
 FIRST_LOOKS = 2000
-MOST_TURNS = 4
+FEWER_LOOKS = 1000
+MOST_TURNS = 3
 
 
 def search(task, slots):
@@ -25,27 +28,30 @@ def search_for(slots):
 def found_for(slots):
     """Return ("theory", mask) with a theory that fits, or ("tree", tree)."""
     splits = Splits(slots, False)
-    looks = FIRST_LOOKS
-    for turn in range(MOST_TURNS):
-        splits.turn = turn
-        found = splits.search(0, slots.everything, looks) or found_with_fewer(splits, looks // 4)
-        if found is not None:
-            return found
-        looks = looks * 2
-    splits.turn = 0
-    return splits.search(0, slots.everything, None)
+    # Where a search is long, a theory is often found soon with fewer slots, or if the atoms are tried in other orders.
+    found = splits.search(0, slots.everything, FIRST_LOOKS) or found_with_fewer(splits)
+    for turn in range(1, MOST_TURNS):
+        if found is None:
+            splits.way = turn
+            found = splits.search(0, slots.everything, FIRST_LOOKS * turn)
+    splits.way = 0
+    return found or splits.search(0, slots.everything, None)
 
 
-def found_with_fewer(splits, limit):
+def found_with_fewer(splits):
     """Return ("theory", mask) with a theory that fits in which some bodies have all atoms, or None."""
     slots = splits.slots
-    for idle in range(1, len(slots.names)):
-        for at in range(len(slots.names)):
-            places = [(at + step) % len(slots.names) for step in range(idle)]
-            must = slots.joined([slots.whole if place in places else 0 for place in range(len(slots.names))])
-            found = splits.search(must, slots.everything, limit)
-            if found is not None and found[0] == "theory":
-                return found
+    places = list(range(len(slots.names)))
+    tried = {}
+    for size in range(1, len(places)):
+        for chosen in combinations(places, size):
+            names = tuple(sorted([slots.names[place] for place in chosen]))
+            if names not in tried:
+                tried[names] = True
+                must = slots.joined([0 if place in chosen else slots.whole for place in places])
+                found = splits.search(must, slots.everything, FEWER_LOOKS)
+                if found is not None and found[0] == "theory":
+                    return found
     return None
 
 

@@ -97,9 +97,15 @@ def diagnosis(task, k):
     check_few(task)
     portions = Portions(task)
     found = clashes_of(task, Trials(portions, k))
-    refused = [(numbers, portions.refusal(*chosen_examples(task, numbers), k)) for numbers in found]
-    left = [(numbers, others_than(task, numbers)) for numbers in least_transversals(found)]
-    return (refused, [(numbers, portions.theory(*chosen_examples(task, others), k)) for numbers, others in left])
+    refused = []
+    for numbers in found:
+        good, bad = chosen_examples(task, numbers)
+        refused.append((numbers, portions.refusal(good, bad, k)))
+    mended = []
+    for numbers in least_transversals(found):
+        good, bad = chosen_examples(task, others_than(task, numbers))
+        mended.append((numbers, portions.theory(good, bad, k)))
+    return (refused, mended)
 
 
 def others_than(task, numbers):
@@ -135,7 +141,7 @@ def is_bare(rows):
     if not all(one < two for one, two in zip(rows, rows[1:])):
         return False
     masks = [mask_of(row) for row in rows]
-    return not any(one & two == one or one & two == two for one, two in combinations(masks, 2))
+    return not any([(one & two) in (one, two) for one, two in combinations(masks, 2)])
 
 
 def mends_by(task, k, numbers, rules):

@@ -1,8 +1,7 @@
 """How many theories for slots fit, and which of them come first.
 
 All is told by nodes. A node stands for all boxes in which the same matters (matters.py). It has a group of atoms that
-are the same for it, and two links: to what is left if some of the group are in the body, and if none is. A link is a
-pair (node, free): the atoms of the mask free do not matter behind it.
+are the same for it, and two links: to what is left if some of the group are in the body, and if none is.
 """
 
 from fewrules.matters import Matter
@@ -22,20 +21,36 @@ class Node:
         self.none = None
 
 
+class Link:
+    """A way to a node: there the atoms ins are in the bodies, the atoms outs are not, the atoms free do not matter."""
+
+    def __init__(self, node, ins, outs, free):
+        self.node = node
+        self.ins = ins
+        self.outs = outs
+        self.free = free
+
+    def worth(self, ins, outs):
+        """Return the number of the fitting theories that have all atoms ins and none of the atoms outs."""
+        if self.ins & outs or self.outs & ins:
+            return 0
+        return self.node.count << size_of(self.free & ~(ins | outs))
+
+
 class Counts:
     """The nodes of the whole box of some slots."""
 
     def __init__(self, slots):
         self.slots = slots
         self.splits = Splits(slots, True)
-        self.wrong = Node(0, 0, 0)
-        self.right = Node(0, 0, 1)
+        self.nothing = Node(0, 0, 0)
+        self.anything = Node(0, 0, 1)
         self.same = {}
         self.order = []
         self.root = self.grown()
         self.order = sorted(self.order, key=lambda node: node.size)
         for node in self.order:
-            node.count = ways(node, 0, 0, worth(node.some, 0), worth(node.none, 0))
+            node.count = ways(node, 0, 0)
 
     def grown(self):
         """Make all nodes, and return the link to that of the whole box."""
@@ -50,24 +65,25 @@ class Counts:
 
     def link_to(self, must, may, waiting):
         """Return the link to a box; if its node is a new one, what is left of the box is put to those that wait."""
+        ins = must
+        outs = self.slots.everything & ~may
         free = 0
         while True:
-            word, told = self.said_of(must, may)
+            word, told, must, may = self.said_of(must, may)
             if word == "leaf":
-                return (self.wrong, 0)
+                return Link(self.nothing, 0, 0, 0)
+            fixed = must & ~ins
+            left = self.slots.everything & ~may & ~outs & ~free
             if word == "all":
-                return (self.right, free | (may & ~must))
-            matter = None if word == "forced" else Matter(self.slots, must, may)
-            if matter is None:
-                return (self.node_for(told, must, may, waiting), free)
+                return Link(self.anything, fixed, left, free | (may & ~must))
+            matter = Matter(self.slots, must, may)
             free = free | matter.free
             may = may & ~matter.free
-            if matter.key in self.same:
-                return (self.same[matter.key], free)
             group = matter.group_with(told)
-            if group:
+            if group and matter.key not in self.same:
                 self.same[matter.key] = self.node_for(group, must, may, waiting)
-                return (self.same[matter.key], free)
+            if matter.key in self.same:
+                return Link(self.same[matter.key], fixed, left, free)
 
     def node_for(self, group, must, may, waiting):
         """Return a new node, and put its box to those that wait."""
@@ -77,9 +93,16 @@ class Counts:
         return node
 
     def said_of(self, must, may):
-        """Return what there is to be said of a box, as the search tells it; without calls all splits are left open."""
-        if self.slots.task.calls:
-            return self.splits.look(must, may)
+        """Return what there is to be said of a box, and the box narrowed down; without calls splits are left open."""
+        if not self.slots.task.calls:
+            return (*self.said_without_calls(must, may), must, may)
+        box = self.splits.narrowed_box(must, may)
+        if box is None:
+            return ("leaf", None, must, may)
+        return (*self.splits.look(*box), *box)
+
+    def said_without_calls(self, must, may):
+        """Return what there is to be said of a box, a word and an atom or 0."""
         if self.slots.wrong(may) is not None or self.slots.lacking(must) is not None:
             return ("leaf", None)
         if self.slots.fits(may) and self.slots.fits(must):
@@ -91,8 +114,8 @@ class Counts:
         decided = ins | outs
         before = [(node, node.count) for node in self.order if node.below & decided]
         for node, _ in before:
-            node.count = ways(node, ins, outs, worth(node.some, decided), worth(node.none, decided))
-        found = worth(self.root, decided)
+            node.count = ways(node, ins, outs)
+        found = self.root.worth(ins, outs)
         for node, count in before:
             node.count = count
         return found
@@ -123,15 +146,10 @@ class Counts:
         return number
 
 
-def worth(link, decided):
-    """Return the number of the fitting theories behind a link, where some atoms are decided."""
-    node, free = link
-    return node.count << size_of(free & ~decided)
-
-
-def ways(node, ins, outs, some, none):
-    """Return the number of the fitting theories of a node, from those of its links, where some atoms are decided."""
+def ways(node, ins, outs):
+    """Return the number of the fitting theories of a node that have all atoms ins and none of the atoms outs."""
     left = size_of(node.group & ~(ins | outs))
+    some = node.some.worth(ins, outs)
     if node.group & ins:
         return some << left
-    return some * ((1 << left) - 1) + none
+    return some * ((1 << left) - 1) + node.none.worth(ins, outs)

@@ -141,7 +141,7 @@ class Desk:
             self._begin(read_task("".join([row + "\n" for row in self._draft])))
             answer = self._count_examples()
         elif words[0] == "rules":
-            self._book.k = int(words[1])
+            set_k(self._book, int(words[1]))
             answer = line
         else:
             self._draft = [] if words[0] == "clear" else [*self._draft, rest_of(line)]
@@ -168,7 +168,7 @@ class Desk:
         """Take back the last line that changed something."""
         line, self._draft, self._task, self._book, k = self._past.pop()
         if self._book is not None:
-            self._book.k = k
+            set_k(self._book, k)
         if line.split(" ")[0] in DEEDS:
             self._book.undo()
         return ["undone " + line]
@@ -220,6 +220,11 @@ def answers_of(lines):
     """Return the list of the answers of a new desk to the lines."""
     desk = Desk()
     return [desk.obey(line) for line in lines]
+
+
+def set_k(book, k):
+    """Set the number of rules of a book."""
+    book.k = k
 
 
 def desk_behind(records):

@@ -20,7 +20,7 @@ class Matter:
         self.groups = []
         low = slots.outcome(may)
         high = slots.outcome(must)
-        called = [name for name, body in slots.rules_of(may) for name in slots.scenes[0].relations_in(body)]
+        called = [one for _, body in slots.rules_of(may) for one in slots.scenes[0].relations_in(body)]
         views = [View(slots, number, low[number][0], high[number][0], called) for number in slots.numbers]
         key = [view.facts_of(called) for view in views]
         calls = ~slots.scenes[0].known
@@ -36,7 +36,7 @@ class Matter:
         shift = at * self.slots.count
         columns = {}
         for digit in digits_of(body):
-            column = tuple([view.column(digit, mask) for view, mask in zip(views, alive)])
+            column = tuple([view.true_among(digit, mask) for view, mask in zip(views, alive)])
             if column == alive:
                 self.free = self.free | (digit << shift)
                 body = body ^ digit
@@ -64,12 +64,12 @@ class View:
         self.high = high
         self.low_truth = self.scene.truth_of(low)
         self.high_truth = self.scene.truth_of(high)
-        self.heads = {}
+        self.unsettled = {}
         for name in slots.names:
             unsettled = high[name] & ~low[name]
             if name not in called:
                 unsettled = unsettled & slots.examples_in(number, name)
-            self.heads[name] = self.scene.blocks(name, unsettled)
+            self.unsettled[name] = self.scene.blocks(name, unsettled)
 
     def facts_of(self, called):
         """Return the tuple of the facts of relations that are called."""
@@ -77,9 +77,9 @@ class View:
 
     def alive(self, name, body):
         """Return the mask of the placings that matter and may make all atoms of a body true."""
-        return self.heads[name] & self.scene.fires(body, self.high_truth)
+        return self.unsettled[name] & self.scene.fires(body, self.high_truth)
 
-    def column(self, digit, mask):
+    def true_among(self, digit, mask):
         """Return those of some placings under which an atom, told as a mask of one digit, is true for sure."""
         if digit & self.scene.known:
             return mask & self.scene.where(digit)

@@ -6,6 +6,8 @@ relation are a mask, too.
 
 from fewrules.parts import digits_of
 
+MOST_KEPT = 20000
+
 
 class Ground:
     """The placings of a world with these constants, each with so many of them.
@@ -26,6 +28,7 @@ class Ground:
         self.having = [self.places_having(sizes[-2 - name]) for name in range(names)]
         self.anchors = [self.first_ones(places) for places in range(names + 1)]
         self.spreads = {}
+        self.truths = {}
 
     def places_having(self, width):
         """Return the list of the masks of the placings that have each constant at a place, which has this width."""
@@ -87,10 +90,15 @@ class Ground:
 
     def truth(self, names, facts):
         """Return the mask of the placings that make one of some facts of an atom with these names."""
-        mask = 0
-        for digit in digits_of(facts):
-            mask = mask | self.spread(names, digit)
-        return mask
+        key = (names, facts)
+        if key not in self.truths:
+            if len(self.truths) > MOST_KEPT:
+                self.truths = {}
+            mask = 0
+            for digit in digits_of(facts):
+                mask = mask | self.spread(names, digit)
+            self.truths[key] = mask
+        return self.truths[key]
 
     def number_of(self, row):
         """Return the number of the placing with the constants at these places."""

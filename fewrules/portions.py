@@ -23,14 +23,14 @@ class Portions:
         self.sets = {example: sets_of(task, example) for example in [*task.good, *task.bad]}
         self.full = {}
 
-    def masks(self, example):
+    def masks_for(self, example):
         """Return the list of the masks of the greatest sets of an example."""
         return [mask_of(body) for body, _ in self.sets[example]]
 
     def field(self, good, bad):
         """Return the field of a part."""
-        goods = [greatest_among(self.masks(example)) for example in good]
-        bads = greatest_among([mask for example in bad for mask in self.masks(example)])
+        goods = [greatest_among(self.masks_for(example)) for example in good]
+        bads = greatest_among([mask for example in bad for mask in self.masks_for(example)])
         return Field(everything_of(self.task), self.kin, goods, bads)
 
     def theory(self, good, bad, k):
@@ -45,7 +45,7 @@ class Portions:
     def accepts_refusal(self, good, bad, k, told):
         """Return True if the refusal for k is accepted for a part."""
         paper, tree = told
-        goods = {at: self.masks(example) for at, example in enumerate(good)}
+        goods = {at: self.masks_for(example) for at, example in enumerate(good)}
         if not accepts_lots(self.task, goods, self.filling_sets(bad), paper):
             return False
         return judge_colours(len(good), [lot for lot, _ in paper], k, tree)

@@ -44,14 +44,14 @@ class Run:
         self.places = places_of(task, program)
         self.rules = program[1]
         self.facts = {symbol: 0 for symbol in self.places}
-        self.truth = {atom: 0 for _, body in self.rules for atom in body}
+        self.true_at = {atom: 0 for _, body in self.rules for atom in body}
         self.rows_of = {symbol: [] for symbol in self.places}
-        for symbol, names in self.truth:
+        for symbol, names in self.true_at:
             self.rows_of[symbol].append(names)
         for name, row in task.closed[world]:
             places = [self.ground.constants.index(constant) for constant in row]
             for names in self.rows_of[name]:
-                self.truth[(name, names)] = self.truth[(name, names)] | self.ground.matching(names, places)
+                self.true_at[(name, names)] = self.true_at[(name, names)] | self.ground.matching(names, places)
         self.work()
 
     def work(self):
@@ -76,11 +76,11 @@ class Run:
         """Add the facts that a rule gives; return True if there are any."""
         mask = self.ground.everything
         for atom in body:
-            mask = mask & self.truth[atom]
+            mask = mask & self.true_at[atom]
         fresh = self.ground.heads(mask, self.places[symbol]) & ~self.facts[symbol]
         self.facts[symbol] = self.facts[symbol] | fresh
         for names in self.rows_of[symbol]:
-            self.truth[(symbol, names)] = self.truth[(symbol, names)] | self.ground.truth(names, fresh)
+            self.true_at[(symbol, names)] = self.true_at[(symbol, names)] | self.ground.truth(names, fresh)
         return fresh != 0
 
     def rows(self, symbol):

@@ -6,9 +6,7 @@ fact of the relation with this digit by the placing, a mask of one digit, too.
 """
 
 from fewrules.parts import digits_of, members_of
-from fewrules.placings import Ground
-
-MOST_KEPT = 20000
+from fewrules.placings import MOST_KEPT, Ground
 
 
 class Scene:

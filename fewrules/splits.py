@@ -25,7 +25,7 @@ class Splits:
         self.lacks = []
         self.below = []
         self.above = []
-        self.turn = 0
+        self.way = 0
 
     def leave_out_below(self, mask):
         """Leave all theories out that have only atoms of the mask."""
@@ -50,9 +50,12 @@ class Splits:
             if word == "theory":
                 take(told)
                 continue
-            if word in ("split", "forced"):
+            if word == "split":
                 waiting.append([must, may, told, None])
                 must = must | told
+                continue
+            if word == "forced":
+                must, may = forced_box(waiting, must, may, told)
                 continue
             finding = closed_up(waiting, finding_of(word, told, must, may))
             if finding is not None:
@@ -63,11 +66,11 @@ class Splits:
 
     def look(self, must, may):
         """Return what there is to be said of a box, a pair of a word and what belongs to it."""
-        leaf, choice = self.known(must, may)
+        leaf, choice = self.looked_up(must, may)
         if leaf is not None:
             return ("leaf", leaf)
         if choice and choice & (choice - 1) == 0:
-            return ("forced", choice)
+            return ("forced", self.choices_in(must, may))
         bad = self.slots.wrong(may)
         if bad is not None:
             return ("leaf", keep(self.wrongs, wrong_leaf(self.slots, may, bad)))
@@ -88,7 +91,7 @@ class Splits:
             return ("theory", must)
         if not choice:
             self.learn(must, may, good, bad)
-            choice = self.known(must, may)[1]
+            choice = self.looked_up(must, may)[1]
         return ("split", self.best_of(choice, must, may))
 
     def learn(self, must, may, good, bad):
@@ -104,14 +107,14 @@ class Splits:
             narrow = narrowed(narrow, must, lambda mask: not slots.gives(mask, good))
             keep(self.lacks, lack_leaf(slots, narrow, good))
 
-    def known(self, must, may):
+    def looked_up(self, must, may):
         """Return a leaf for the box, or None, and the fewest atoms of which the known leaves ask for one.
 
         One of them must be put to must, or one of them taken out of may; no atoms if nothing is asked for.
         """
         best = 0
         least = len(self.slots.names) * self.slots.count + 1
-        for choice, leaf in self.asked(must, may):
+        for choice, leaf in self.choices_in(must, may):
             if not choice:
                 return leaf, 0
             size = size_below(choice, least)
@@ -120,7 +123,22 @@ class Splits:
                 best = choice
         return None, best
 
-    def asked(self, must, may):
+    def narrowed_box(self, must, may):
+        """Return the box without what known leaves rule out atom by atom, or None if nothing is left of it."""
+        while not must & ~may:
+            forced = [(choice, leaf) for choice, leaf in self.choices_in(must, may) if not choice & (choice - 1)]
+            if not forced:
+                return (must, may)
+            for choice, leaf in forced:
+                if not choice:
+                    return None
+                if leaf.word == "has":
+                    must = must | choice
+                else:
+                    may = may & ~choice
+        return None
+
+    def choices_in(self, must, may):
         """Return for each leaf that the box does not rule out the atoms of which one must be decided, and the leaf."""
         out = ~may
         found = [(may & leaf.mask, leaf) for leaf in self.wrongs + self.below if not must & leaf.mask]
@@ -130,13 +148,26 @@ class Splits:
     def best_of(self, choice, must, may):
         """Return the digit of the atom of a choice that settles the most, small choices counting more."""
         score = {digit: 0 for digit in digits_of(choice)}
-        for other, _ in self.asked(must, may):
+        for other, _ in self.choices_in(must, may):
             common = other & choice
             if common:
                 worth = 1 << ((MOST_COUNTED - size_below(other, MOST_COUNTED)) * 2)
                 for digit in digits_of(common):
                     score[digit] = score[digit] + worth
-        return max(score, key=lambda digit: (score[digit], (digit.bit_length() * self.turn) % 31))
+        return max(score, key=lambda digit: (score[digit], (digit.bit_length() * self.way) % 31))
+
+
+def forced_box(waiting, must, may, choices):
+    """Split a box at all atoms for which there is no choice; return what is left of it."""
+    for digit, leaf in choices:
+        if not digit & (digit - 1) and digit & may & ~must:
+            if leaf.word == "has":
+                waiting.append([must, may, digit, None])
+                must = must | digit
+            else:
+                waiting.append([must, may, digit, (leaf, leaf.mask, 0)])
+                may = may & ~digit
+    return must, may
 
 
 def keep(leaves, leaf):
