@@ -2,6 +2,7 @@
 
 from itertools import combinations
 
+from fewrules.flat import flat_theory
 from fewrules.slots import check_slots, least_in, slots_of, told_facts, told_steps
 from fewrules.splits import Splits
 from fewrules.trees import Judge
@@ -28,6 +29,11 @@ def search_for(slots):
 def found_for(slots):
     """Return ("theory", mask) with a theory that fits, or ("tree", tree)."""
     splits = Splits(slots, False)
+    mask = flat_theory(slots)
+    if mask is not None:
+        return ("theory", mask)
+    if not slots.task.calls:
+        return splits.search(0, slots.everything, None)
     # Where a search is long, a theory is often found soon with fewer slots, or if the atoms are tried in other orders.
     found = splits.search(0, slots.everything, FIRST_LOOKS) or found_with_fewer(splits)
     for turn in range(1, MOST_TURNS):

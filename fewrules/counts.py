@@ -95,11 +95,14 @@ class Counts:
     def said_of(self, must, may):
         """Return what there is to be said of a box, and the box narrowed down; without calls splits are left open."""
         if not self.slots.task.calls:
-            return (*self.said_without_calls(must, may), must, may)
+            word, told = self.said_without_calls(must, may)
+            return (word, told, must, may)
         box = self.splits.narrowed_box(must, may)
         if box is None:
             return ("leaf", None, must, may)
-        return (*self.splits.look(*box), *box)
+        must, may = box
+        word, told = self.splits.look(must, may)
+        return (word, told, must, may)
 
     def said_without_calls(self, must, may):
         """Return what there is to be said of a box, a word and an atom or 0."""

@@ -81,7 +81,7 @@ class Trials:
 
         def is_fine(colours):
             """Return True if one rule takes all examples of the last colour."""
-            lot = mask_of([numbers[at] for at, colour in enumerate(colours) if colour == colours[-1]])
+            lot = mask_of([numbers[thing] for thing, colour in enumerate(colours) if colour == colours[-1]])
             return field.body_for(lot) is not None
 
         return first_colouring(len(numbers), self.k, is_fine) is not None

@@ -247,6 +247,29 @@ class SearchTest(Case):
             kind, tree = search(task, fewer)
             self.assertEqual((kind, accepts_refutation(task, fewer, tree)), ("none", True))
 
+    def test_several_relations_without_calls(self):
+        text = "known red 1\nknown big 1\nunknown goal 1\nunknown aim 1\nnames 1\nworld a b c d\nfact red(a)\n" \
+               "fact big(b)\nfact red(c)\nfact big(c)\ngood 0 goal(a)\ngood 0 goal(b)\ngood 0 aim(d)\nbad 0 goal(d)\n"
+        task = read_task(text)
+        for slots, kind in [(["goal", "goal", "aim"], "theory"), (["goal", "aim", "goal", "goal"], "theory"),
+                            (["goal", "aim"], "none"), (["goal", "goal"], "none"), (["aim"] * 4, "none")]:
+            word, told = search(task, slots)
+            self.assertEqual(word, kind)
+            self.assertTrue(theory_fits(task, told) if kind == "theory" else accepts_refutation(task, slots, told))
+        task = read_task(text + "bad 0 aim(a)\nbad 0 aim(b)\nbad 0 aim(c)\n")
+        self.assertEqual(search(task, ["goal", "goal", "aim"])[0], "none")
+
+    def test_slots_that_are_not_needed(self):
+        text = "known red 1\nunknown goal 1\nnames 1{}\nworld a b\nfact red(b)\nbad 0 goal(b)\n"
+        for calls in ("", " calls"):
+            task = read_task(text.format(calls))
+            kind, told = search(task, ["goal"] * 3)
+            self.assertEqual(kind, "none" if not calls else "theory")
+            if calls:
+                self.assertIs(theory_fits(task, told), True)
+            else:
+                self.assertIs(accepts_refutation(task, ["goal"] * 3, told), True)
+
     def test_background_rules(self):
         task = read_task("known tie 2\nunknown goal 1\nnames 2\nrule tie(b,a) if tie(a,b)\nworld a b c\nfact tie(a,b)\n"
                          "good 0 goal(a)\ngood 0 goal(b)\nbad 0 goal(c)\n")
