@@ -3,7 +3,7 @@
 from itertools import combinations
 
 from fewrules.flat import flat_theory
-from fewrules.slots import check_slots, least_in, slots_of, told_facts, told_steps
+from fewrules.slots import check_slots, slots_of, told_facts, told_steps
 from fewrules.splits import Splits
 from fewrules.trees import Judge
 
@@ -103,8 +103,8 @@ def all_leaf(slots, must, may):
     closed = []
     stages = []
     for scene in slots.scenes:
-        closed.append(told_facts(scene, least_in(scene, slots.rules_of(must))[0]))
-        stages.append(told_steps(scene, least_in(scene, slots.rules_of(may))[1]))
+        closed.append(told_facts(scene, scene.least(slots.rules_of(must))))
+        stages.append(told_steps(scene, scene.steps_of(slots.rules_of(may))))
     return ("all", closed, stages)
 
 

@@ -100,8 +100,8 @@ class Counts:
         box = self.splits.narrowed_box(must, may)
         if box is None:
             return ("leaf", None, must, may)
-        must, may = box
-        word, told = self.splits.look(must, may)
+        must, may, choices = box
+        word, told = self.splits.look(must, may, choices)
         return (word, told, must, may)
 
     def said_without_calls(self, must, may):

@@ -24,7 +24,7 @@ class Leaf:
 def lack_leaf(slots, mask, example):
     """Return a leaf for a good example that the theory does not give."""
     scene = slots.scenes[example[0]]
-    facts = slots.outcome(mask)[example[0]][0]
+    facts = slots.outcome(mask)[example[0]]
     truth = scene.truth_of(facts)
     bodies = [needed_atoms(scene, body, scene.others(name, facts[name]), truth) for name, body in slots.rules_of(mask)]
     return Leaf("lacks", example, told_facts(scene, facts), slots.joined(bodies))
@@ -49,7 +49,7 @@ def wrong_leaf(slots, mask, example):
     scene = slots.scenes[example[0]]
     rules = slots.rules_of(mask)
     goal = (example[1], scene.ground.fact_digit(example[2]))
-    steps = scene.steps_to(goal, slots.outcome(mask)[example[0]][1], rules)
+    steps = scene.steps_to(goal, scene.steps_of(rules), rules)
     bodies = [slots.whole] * len(rules)
     earlier = {}
     for name, digit, number, placing in steps:

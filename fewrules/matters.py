@@ -21,7 +21,7 @@ class Matter:
         low = slots.outcome(may)
         high = slots.outcome(must)
         called = [one for _, body in slots.rules_of(may) for one in slots.scenes[0].relations_in(body)]
-        views = [View(slots, number, low[number][0], high[number][0], called) for number in slots.numbers]
+        views = [View(slots, number, low[number], high[number], called) for number in slots.numbers]
         key = [view.facts_of(called) for view in views]
         calls = ~slots.scenes[0].known
         between = slots.rules_of(may & ~must)

@@ -70,12 +70,8 @@ class Scene:
         """Return the mask of the fillings of an example of the world."""
         return self.blocks(example[1], self.ground.fact_digit(example[2]))
 
-    def has(self, facts, fact):
-        """Return True if the fact, one of an unknown relation in the world, is among the facts."""
-        return facts[fact[0]] & self.ground.fact_digit(fact[1]) != 0
-
-    def least(self, rules, steps):
-        """Return the least facts that are closed under the rules, and put the steps to them to the list of steps."""
+    def least(self, rules, steps=None):
+        """Return the least facts that are closed under the rules, and put the steps to them to the list, if any."""
         facts = {name: 0 for name in self.places}
         truth = {at: 0 for at in self.names}
         grown = True
@@ -86,11 +82,22 @@ class Scene:
                 fresh = self.ground.heads(mask, self.places[name]) & ~facts[name] if mask else 0
                 if fresh:
                     grown = True
-                    steps.extend([(name, digit, number, mask & self.blocks(name, digit)) for digit in digits_of(fresh)])
+                    if steps is not None:
+                        steps.extend(self.steps_with(name, fresh, number, mask))
                     facts[name] = facts[name] | fresh
                     for at in self.called[name]:
                         truth[at] = truth[at] | self.ground.truth(self.names[at][1], fresh)
         return facts
+
+    def steps_with(self, name, fresh, number, mask):
+        """Return the list of the steps to new facts of a relation, each with all placings by which a rule gives it."""
+        return [(name, digit, number, mask & self.blocks(name, digit)) for digit in digits_of(fresh)]
+
+    def steps_of(self, rules):
+        """Return the list of the steps to the least facts that are closed under the rules."""
+        steps = []
+        self.least(rules, steps)
+        return steps
 
     def fires(self, body, truth):
         """Return the mask of the placings that make all atoms of the body true, with a table for those that call."""

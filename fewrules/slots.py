@@ -25,6 +25,7 @@ class Slots:
         self.scenes = [Scene(task, number) for number in range(len(task.worlds))]
         self.numbers = sorted({example[0]: True for example in [*good, *bad]})
         self.kept = {}
+        self.digits = {}
 
     def rules_of(self, mask):
         """Return the list of the rules of a theory, pairs (name, mask of the body)."""
@@ -62,17 +63,19 @@ class Slots:
         return sum([self.scenes[number].ground.fact_digit(row) for row in rows])
 
     def outcome(self, mask):
-        """Return a table of what a theory gives in each world with examples, pairs (facts, steps)."""
+        """Return a table of the facts that a theory gives in each world with examples."""
         if mask not in self.kept:
             if len(self.kept) > MOST_KEPT:
                 self.kept = {}
             rules = self.rules_of(mask)
-            self.kept[mask] = {number: least_in(self.scenes[number], rules) for number in self.numbers}
+            self.kept[mask] = {number: self.scenes[number].least(rules) for number in self.numbers}
         return self.kept[mask]
 
     def gives(self, mask, example):
         """Return True if the example is in the least set of the theory."""
-        return self.scenes[example[0]].has(self.outcome(mask)[example[0]][0], example[1:])
+        if example not in self.digits:
+            self.digits[example] = self.scenes[example[0]].ground.fact_digit(example[2])
+        return self.outcome(mask)[example[0]][example[1]] & self.digits[example] != 0
 
     def lacking(self, mask):
         """Return the first good example that the theory does not give, or None."""
@@ -91,13 +94,6 @@ class Slots:
     def fits(self, mask):
         """Return True if the theory fits."""
         return self.lacking(mask) is None and self.wrong(mask) is None
-
-
-def least_in(scene, rules):
-    """Return the pair (facts, steps) of what rules give in a world."""
-    steps = []
-    facts = scene.least(rules, steps)
-    return (facts, steps)
 
 
 def slots_of(task, names):

@@ -6,7 +6,7 @@ none of the atoms outs in may.
 """
 
 from fewrules.leaves import Leaf, lack_leaf, narrowed, widened, wrong_leaf
-from fewrules.parts import digits_of, size_below
+from fewrules.parts import digits_of, size_below, size_of
 
 MOST_LEAVES = 400
 MOST_COUNTED = 6
@@ -44,7 +44,7 @@ class Splits:
         looks = 0
         while limit is None or looks < limit:
             looks = looks + 1
-            word, told = self.look(must, may)
+            word, told = self.look(must, may, self.choices_in(must, may))
             if word == "theory" and take is None:
                 return (word, told)
             if word == "theory":
@@ -64,22 +64,22 @@ class Splits:
             may = may & ~digit
         return None
 
-    def look(self, must, may):
-        """Return what there is to be said of a box, a pair of a word and what belongs to it."""
-        leaf, choice = self.looked_up(must, may)
+    def look(self, must, may, choices):
+        """Return what there is to be said of a box with these choices, a pair of a word and what belongs to it."""
+        leaf, least = least_choice(choices)
         if leaf is not None:
             return ("leaf", leaf)
-        if choice and choice & (choice - 1) == 0:
-            return ("forced", self.choices_in(must, may))
+        if least and least & (least - 1) == 0:
+            return ("forced", choices)
         bad = self.slots.wrong(may)
         if bad is not None:
             return ("leaf", keep(self.wrongs, wrong_leaf(self.slots, may, bad)))
         good = self.slots.lacking(must)
         if good is not None:
             return ("leaf", keep(self.lacks, lack_leaf(self.slots, must, good)))
-        return self.look_at_edges(must, may, choice)
+        return self.look_at_edges(must, may, choices, least)
 
-    def look_at_edges(self, must, may, choice):
+    def look_at_edges(self, must, may, choices, least):
         """Return what there is to be said of a box of which the theory may has no bad example, and must lacks none."""
         good = self.slots.lacking(may)
         bad = self.slots.wrong(must)
@@ -89,10 +89,11 @@ class Splits:
             return ("theory", may)
         if not self.wants_all and bad is None and not any(not leaf.mask & must for leaf in self.below):
             return ("theory", must)
-        if not choice:
+        if not choices:
             self.learn(must, may, good, bad)
-            choice = self.looked_up(must, may)[1]
-        return ("split", self.best_of(choice, must, may))
+            choices = self.choices_in(must, may)
+            least = least_choice(choices)[1]
+        return ("split", self.best_of(least, choices))
 
     def learn(self, must, may, good, bad):
         """Keep leaves that tell of the box: may lacks the good example, must has the bad one, if they are there."""
@@ -107,28 +108,13 @@ class Splits:
             narrow = narrowed(narrow, must, lambda mask: not slots.gives(mask, good))
             keep(self.lacks, lack_leaf(slots, narrow, good))
 
-    def looked_up(self, must, may):
-        """Return a leaf for the box, or None, and the fewest atoms of which the known leaves ask for one.
-
-        One of them must be put to must, or one of them taken out of may; no atoms if nothing is asked for.
-        """
-        best = 0
-        least = len(self.slots.names) * self.slots.count + 1
-        for choice, leaf in self.choices_in(must, may):
-            if not choice:
-                return leaf, 0
-            size = size_below(choice, least)
-            if size < least:
-                least = size
-                best = choice
-        return None, best
-
     def narrowed_box(self, must, may):
-        """Return the box without what known leaves rule out atom by atom, or None if nothing is left of it."""
+        """Return the box without what known leaves rule out atom by atom, with its choices, or None if it is empty."""
         while not must & ~may:
-            forced = [(choice, leaf) for choice, leaf in self.choices_in(must, may) if not choice & (choice - 1)]
+            choices = self.choices_in(must, may)
+            forced = [(choice, leaf) for choice, leaf in choices if not choice & (choice - 1)]
             if not forced:
-                return (must, may)
+                return (must, may, choices)
             for choice, leaf in forced:
                 if not choice:
                     return None
@@ -139,22 +125,38 @@ class Splits:
         return None
 
     def choices_in(self, must, may):
-        """Return for each leaf that the box does not rule out the atoms of which one must be decided, and the leaf."""
+        """Return for each leaf that the box does not rule out the choice that it leaves, and the leaf.
+
+        The choice is a mask of atoms: one of them must be put to must, or one of them taken out of may.
+        """
         out = ~may
         found = [(may & leaf.mask, leaf) for leaf in self.wrongs + self.below if not must & leaf.mask]
         found.extend([(leaf.mask & ~must, leaf) for leaf in self.lacks + self.above if not leaf.mask & out])
         return found
 
-    def best_of(self, choice, must, may):
+    def best_of(self, least, choices):
         """Return the digit of the atom of a choice that settles the most, small choices counting more."""
-        score = {digit: 0 for digit in digits_of(choice)}
-        for other, _ in self.choices_in(must, may):
-            common = other & choice
+        score = {digit: 0 for digit in digits_of(least)}
+        for choice, _ in choices:
+            common = choice & least
             if common:
-                worth = 1 << ((MOST_COUNTED - size_below(other, MOST_COUNTED)) * 2)
+                worth = 1 << ((MOST_COUNTED - size_below(choice, MOST_COUNTED)) * 2)
                 for digit in digits_of(common):
                     score[digit] = score[digit] + worth
         return max(score, key=lambda digit: (score[digit], (digit.bit_length() * self.way) % 31))
+
+
+def least_choice(choices):
+    """Return a leaf that leaves no choice at all, or None, and the choice of the fewest atoms, 0 if there is none."""
+    best = 0
+    least = None
+    for choice, leaf in choices:
+        if not choice:
+            return leaf, 0
+        if least is None or size_below(choice, least) < least:
+            best = choice
+            least = size_of(choice)
+    return None, best
 
 
 def forced_box(waiting, must, may, choices):
