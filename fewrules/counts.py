@@ -38,7 +38,10 @@ class Link:
 
 
 class Counts:
-    """The nodes of the whole box of some slots."""
+    """The nodes of the whole box of some slots, and the number of the fitting theories.
+
+    To number them the atoms are decided in order; then the counts of the nodes are for what is decided so far.
+    """
 
     def __init__(self, slots):
         self.slots = slots
@@ -49,8 +52,12 @@ class Counts:
         self.order = []
         self.root = self.grown()
         self.order = sorted(self.order, key=lambda node: node.size)
+        self.ins = 0
+        self.outs = 0
         for node in self.order:
-            node.count = ways(node, 0, 0)
+            node.count = self.ways(node)
+        self.first = [(node, node.count) for node in self.order]
+        self.total = self.left()
 
     def grown(self):
         """Make all nodes, and return the link to that of the whole box."""
@@ -112,47 +119,68 @@ class Counts:
             return ("all", None)
         return ("split", 0)
 
-    def count_within(self, ins, outs):
-        """Return the number of the fitting theories that have all atoms ins and none of the atoms outs."""
-        decided = ins | outs
-        before = [(node, node.count) for node in self.order if node.below & decided]
-        for node, _ in before:
-            node.count = ways(node, ins, outs)
-        found = self.root.worth(ins, outs)
-        for node, count in before:
+    def ways(self, node):
+        """Return the number of the fitting theories of a node by what is decided."""
+        left = size_of(node.group & ~(self.ins | self.outs))
+        some = node.some.worth(self.ins, self.outs)
+        if node.group & self.ins:
+            return some << left
+        return some * ((1 << left) - 1) + node.none.worth(self.ins, self.outs)
+
+    def left(self):
+        """Return the number of the fitting theories by what is decided."""
+        return self.root.worth(self.ins, self.outs)
+
+    def begin(self):
+        """Take all decisions back."""
+        self.ins = 0
+        self.outs = 0
+        self.order = [node for node, _ in self.first]
+        for node, count in self.first:
             node.count = count
-        return found
+
+    def left_without(self, digit):
+        """Leave an atom out, and return the number of the fitting theories that are left."""
+        # Where nothing is left, nothing comes back behind what is decided for good.
+        self.order = [node for node in self.order if node.count]
+        self.outs = self.outs | digit
+        self.count_again(digit)
+        return self.left()
+
+    def put_in(self, digit):
+        """Put an atom in that was left out last."""
+        self.outs = self.outs ^ digit
+        self.ins = self.ins | digit
+        self.count_again(digit)
+
+    def count_again(self, digit):
+        """Count what is left at the nodes for which an atom matters."""
+        for node in self.order:
+            if node.below & digit:
+                node.count = self.ways(node)
 
     def theory_at(self, number):
         """Return the mask of the fitting theory with this number, or None if there is none."""
-        if not 0 <= number < self.count_within(0, 0):
+        if not 0 <= number < self.total:
             return None
-        ins = 0
-        outs = 0
+        self.begin()
+        theory = 0
         for digit in digits_of(self.slots.everything):
-            without = self.count_within(ins, outs | digit)
-            if number < without:
-                outs = outs | digit
-            else:
+            without = self.left_without(digit)
+            if number >= without:
+                # The theories without the atom come first.
                 number = number - without
-                ins = ins | digit
-        return ins
+                theory = theory | digit
+                self.put_in(digit)
+        return theory
 
     def number_at(self, theory):
         """Return the number of a fitting theory, told as a mask."""
+        self.begin()
         number = 0
-        ahead = 0
-        for digit in digits_of(theory):
-            # The theories that are the same up to this atom, and do not have it, come first.
-            number = number + self.count_within(ahead, digit | ((digit - 1) & ~theory))
-            ahead = ahead | digit
+        for digit in digits_of(self.slots.everything):
+            without = self.left_without(digit)
+            if theory & digit:
+                number = number + without
+                self.put_in(digit)
         return number
-
-
-def ways(node, ins, outs):
-    """Return the number of the fitting theories of a node that have all atoms ins and none of the atoms outs."""
-    left = size_of(node.group & ~(ins | outs))
-    some = node.some.worth(ins, outs)
-    if node.group & ins:
-        return some << left
-    return some * ((1 << left) - 1) + node.none.worth(ins, outs)

@@ -15,7 +15,7 @@ from fewrules.splits import Splits
 def count_fitting(task, slots):
     """Return the number of the theories for the slots that fit."""
     check_slots(task, slots)
-    return Counts(slots_of(task, slots)).count_within(0, 0)
+    return Counts(slots_of(task, slots)).total
 
 
 def counted(task, slots):
@@ -24,7 +24,7 @@ def counted(task, slots):
     held = slots_of(task, slots)
     counts = Counts(held)
     first = counts.theory_at(0)
-    return (counts.count_within(0, 0), None if first is None else held.theory_of(first))
+    return (counts.total, None if first is None else held.theory_of(first))
 
 
 def fitting_at(task, slots, number):
